@@ -1,0 +1,53 @@
+"""The interface: each name stands in its file, with the documented arguments."""
+
+import ast
+import importlib
+import inspect
+import pathlib
+import unittest
+
+PACKAGE = pathlib.Path(__file__).resolve().parent.parent / "wellfolk"
+
+# For each module its functions, each with its parameters as they are written.
+FUNCTIONS = {
+    "wells": {
+        "is_well": "(value)",
+        "is_state": "(well, value)",
+        "weight_of": "(well, group)",
+        "total_size": "(well)",
+        "empty_state": "(well)",
+    },
+    "moves": {
+        "all_moves": "(well)",
+        "legal_moves": "(well, state)",
+        "apply_move": "(well, state, move)",
+        "apply_moves": "(well, state, moves)",
+        "weight_change": "(well, source, target)",
+    },
+}
+
+
+def defined_in(name):
+    """Return the names of the functions and classes that a file defines itself."""
+    tree = ast.parse((PACKAGE / (name + ".py")).read_text())
+    return [node.name for node in tree.body
+            if isinstance(node, (ast.FunctionDef, ast.ClassDef))]
+
+
+class InterfaceTest(unittest.TestCase):
+
+    def test_functions(self):
+        for name, functions in FUNCTIONS.items():
+            module = importlib.import_module("wellfolk." + name)
+            for function, parameters in functions.items():
+                with self.subTest(function):
+                    self.assertIn(function, defined_in(name))
+                    signature = inspect.signature(getattr(module, function))
+                    self.assertEqual(str(signature), parameters)
+
+    def test_the_package_itself_defines_nothing(self):
+        self.assertEqual(defined_in("__init__"), [])
+
+
+if __name__ == "__main__":
+    unittest.main()

@@ -1,0 +1,1 @@
+"""Wellfolk: a counterweight well."""
