@@ -24,6 +24,29 @@ FUNCTIONS = {
         "apply_moves": "(well, state, moves)",
         "weight_change": "(well, source, target)",
     },
+    "segments": {
+        "segments": "(well)",
+        "is_grounded": "(well)",
+        "suffix_counts": "(well, state)",
+        "state_from_counts": "(well, counts)",
+    },
+    "reach": {
+        "is_reachable": "(well, source, target)",
+        "obstruction": "(well, source, target)",
+        "is_obstruction": "(well, source, target, value)",
+        "is_terminal": "(well, state)",
+        "terminal_state": "(well, state)",
+    },
+    "lattice": {
+        "are_compatible": "(well, first, second)",
+        "join": "(well, first, second)",
+        "meet": "(well, first, second)",
+    },
+    "crossing": {
+        "crossings": "(well, source, target)",
+        "max_moves": "(well, source, target)",
+        "descent_bounds": "(well, source, target)",
+    },
 }
 
 
