@@ -62,6 +62,39 @@ def sequences_from(given, source):
     return best
 
 
+@functools.lru_cache(maxsize=None)
+def sizes_from(given, source):
+    """Return for each reachable STATE the set of the lengths of all sequences to it."""
+    sizes = {source: {0}}
+    for state in sorted(reachable_from(given, source), key=lambda one: weight_below(given, one)):
+        for move in legal_pairs(given, state):
+            later = sizes.setdefault(after_move(state, move), set())
+            later.update(size + 1 for size in sizes[state])
+    return sizes
+
+
+def all_counts(given, source, target):
+    """Return all MOVE COUNTS whose net effect leads from one STATE to another."""
+    limit, groups = given
+    weights = [weight for weight, _ in groups] + [0]
+    moves = [(down, up) for down in range(len(groups)) for up in range(-1, down)
+             if weights[down] - weights[up] <= limit]
+    before, after = counts_by_hand(given, source), counts_by_hand(given, target)
+    return counts_that_cross(moves, [after[k] - before[k] for k in range(len(groups))])
+
+
+def counts_that_cross(moves, crossed):
+    """Return all MOVE COUNTS of some MOVEs that cross each group so many times."""
+    if not moves:
+        return [] if any(crossed) else [[]]
+    (down, up), found = moves[0], []
+    for count in range(min(crossed[up + 1:down + 1]) + 1):
+        left = [number - count * (up < group <= down) for group, number in enumerate(crossed)]
+        first = [(down, up, count)] if count else []
+        found.extend(first + rest for rest in counts_that_cross(moves[1:], left))
+    return found
+
+
 def one_more(numbers, group):
     """Return the numbers with one more at a group."""
     return tuple(number + (k == group) for k, number in enumerate(numbers))

@@ -47,6 +47,27 @@ FUNCTIONS = {
         "max_moves": "(well, source, target)",
         "descent_bounds": "(well, source, target)",
     },
+    "covers": {
+        "min_moves": "(well, source, target)",
+        "move_counts": "(well, source, target, *, size=None)",
+        "are_move_counts": "(well, source, target, value)",
+    },
+    "potentials": {
+        "is_potential": "(well, value)",
+        "potential_gain": "(well, potential, source, target)",
+        "optimal_potential": "(well, source, target)",
+    },
+    "sequences": {
+        "count_moves": "(moves)",
+        "order_moves": "(well, state, counts)",
+        "move_sequence": "(well, source, target, *, size=None)",
+        "is_move_sequence": "(well, source, target, value)",
+    },
+    "limits_for": {
+        "with_limit": "(well, limit)",
+        "min_limit": "(well, source, target)",
+        "min_limit_for": "(well, source, target, size)",
+    },
 }
 
 
