@@ -276,6 +276,12 @@ class AreMoveCountsTest(ErrorCase):
                           [(0, -1), (2, 0)], [(0, -1, 2, 0), (2, 0, 2, 0)], [(0, -1, 2), (2, 0, 3)],
                           [(0, -1, 4), (2, 0, 4)]])
 
+    def test_one_move_in_two_triples(self):
+        given = (5, ((5, 9),))
+        self.assertIs(are_move_counts(given, (0,), (3,), [(0, -1, 3)]), True)
+        for value in ([(0, -1, 1), (0, -1, 2)], [(0, -1, 2), (0, -1, 1)], [(0, -1, 1)] * 3):
+            self.assertIs(are_move_counts(given, (0,), (3,), value), False)
+
     def test_counts_below_one(self):
         self.assert_none([[(0, -1, 2), (1, 0, 0), (2, 0, 2)], [(0, -1, 2), (1, -1, 0), (2, 0, 2)],
                           [(0, -1, 1), (1, -1, 1), (1, 0, -1), (2, 0, 2)]])

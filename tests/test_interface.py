@@ -8,7 +8,7 @@ import unittest
 
 PACKAGE = pathlib.Path(__file__).resolve().parent.parent / "wellfolk"
 
-# For each module its functions, each with its parameters as they are written.
+# For each module its functions and classes, each with its parameters as they are written.
 FUNCTIONS = {
     "wells": {
         "is_well": "(value)",
@@ -67,6 +67,25 @@ FUNCTIONS = {
         "with_limit": "(well, limit)",
         "min_limit": "(well, source, target)",
         "min_limit_for": "(well, source, target, size)",
+    },
+    "counting": {
+        "count_states": "(well, state)",
+        "state_at": "(well, state, index)",
+        "state_index": "(well, state, target)",
+        "count_sequences": "(well, source, target, size)",
+        "sequence_at": "(well, source, target, size, index)",
+        "sequence_index": "(well, state, moves)",
+    },
+    "simulation": {
+        "Simulation": "(well, state)",
+    },
+    "texts": {
+        "format_well": "(well, state)",
+        "parse_well": "(text)",
+        "format_moves": "(moves)",
+    },
+    "commands": {
+        "run_commands": "(text)",
     },
 }
 

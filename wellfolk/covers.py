@@ -63,7 +63,8 @@ def _fewest_moves(well, source, target):
     """Return MOVE COUNTS with the smallest total that connect source to target."""
     # A MOVE crosses each group behind its `up`, up to its `down`. From group to
     # group, as many MOVEs as possible are carried on. Where some must end, those
-    # with the lightest person going up do: no other MOVE could be carried further.
+    # with the lightest person going up do: each other MOVE can be carried as far. So
+    # the MOVEs end in ascending order.
     counts = []
     begun = []
     for group, needed in enumerate(crossings(well, source, target) + (0,)):
@@ -73,7 +74,7 @@ def _fewest_moves(well, source, target):
         counts.extend([(group - 1, up, count) for up, count in ended])
         if needed > carried:
             begun.append((group - 1, needed - carried))
-    return sorted(counts)
+    return counts
 
 
 def _take_first(pairs, number):

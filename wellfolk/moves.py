@@ -15,7 +15,7 @@ def all_moves(well):
 def legal_moves(well, state):
     """Return the MOVEs that are legal in the STATE, in ascending order."""
     return [(down, up) for down, up in all_moves(well)
-            if _people_are_there(well, state, down, up)]
+            if _people_are_there(well, state, down, up, 1)]
 
 
 def apply_move(well, state, move):
@@ -25,13 +25,19 @@ def apply_move(well, state, move):
 
 def apply_moves(well, state, moves):
     """Return the STATE to which the MOVEs lead, one after another."""
-    bottom = list(state)
     for down, up in moves:
-        if not _is_legal(well, bottom, down, up):
-            raise IllegalMove((down, up))
-        bottom[down] += 1
-        if up != -1:
-            bottom[up] -= 1
+        state = apply_equal_moves(well, state, down, up, 1)
+    return tuple(state)
+
+
+def apply_equal_moves(well, state, down, up, count):
+    """Return the STATE to which a MOVE leads that is executed `count` times."""
+    if not is_move(well, down, up) or not _people_are_there(well, state, down, up, count):
+        raise IllegalMove((down, up))
+    bottom = list(state)
+    bottom[down] += count
+    if up != -1:
+        bottom[up] -= count
     return tuple(bottom)
 
 
@@ -49,11 +55,7 @@ def is_move(well, down, up):
     return weight_of(well, down) - weight_of(well, up) <= well[0]
 
 
-def _is_legal(well, state, down, up):
-    return is_move(well, down, up) and _people_are_there(well, state, down, up)
-
-
-def _people_are_there(well, state, down, up):
-    """Tell whether the people whom a MOVE needs are at the top and at the bottom."""
+def _people_are_there(well, state, down, up, count):
+    """Tell whether the people whom `count` equal MOVEs need are at the top and at the bottom."""
     size = well[1][down][1]
-    return state[down] < size and (up == -1 or state[up] >= 1)
+    return state[down] + count <= size and (up == -1 or state[up] >= count)
